@@ -1,0 +1,1 @@
+"""Elderline: a language of houses with many elders."""

@@ -1,0 +1,165 @@
+"""What can be seen of LANGUAGE.md's rules from the package's files, by the rules' numbers."""
+
+import ast
+import builtins
+import keyword
+import pathlib
+import re
+import unittest
+
+PACKAGE = pathlib.Path(__file__).resolve().parent.parent / "elderline"
+
+STATEMENTS = (
+    ast.Assign, ast.AugAssign, ast.If, ast.While, ast.For, ast.Return, ast.Break, ast.Continue, ast.Pass,
+    ast.Raise, ast.Try, ast.FunctionDef,
+)
+BARRED = (
+    ast.With, ast.Delete, ast.Global, ast.Nonlocal, ast.Assert, ast.Yield, ast.YieldFrom, ast.Await, ast.Starred,
+    ast.SetComp, ast.DictComp, ast.GeneratorExp, ast.NamedExpr, ast.Div, ast.AnnAssign, ast.MatMult,
+)
+OWN_NAMES = """len range enumerate zip min max sum abs sorted reversed int str bool list tuple dict set frozenset
+isinstance ord repr any all divmod Exception ValueError TypeError KeyError IndexError LookupError ZeroDivisionError
+ArithmeticError OverflowError RuntimeError NotImplementedError AttributeError StopIteration""".split()
+METHODS = """append clear copy count endswith extend find get index insert isalnum isalpha isdigit islower isspace
+isupper items join keys ljust lower lstrip partition pop remove replace reverse rfind rjust rpartition rsplit rstrip
+setdefault split splitlines startswith strip update upper values zfill bit_length""".split()
+DOUBLE = ["__init__", "__eq__", "__repr__", "__str__", "__len__"]
+WORDS = """type typing typing_extensions enum Enum IntEnum StrEnum Flag IntFlag Generic Protocol ABC ABCMeta
+namedtuple NamedTuple TypedDict TYPE_CHECKING abstractmethod""".split()
+
+
+def files():
+    return sorted(PACKAGE.glob("*.py"))
+
+
+def nodes(tree, kind):
+    return [node for node in ast.walk(tree) if isinstance(node, kind)]
+
+
+def trees():
+    return [(path, ast.parse(path.read_text(encoding="ascii"), path.name)) for path in files()]
+
+
+class Language(unittest.TestCase):
+    def test_l1_l14_files(self):
+        self.assertTrue((PACKAGE / "__init__.py").is_file())
+        for path in PACKAGE.iterdir():
+            if path.name == "__pycache__":
+                continue
+            with self.subTest(path.name):
+                self.assertRegex(path.name, r"\A([a-z][a-z0-9_]*|__init__|__main__)\.py\Z")
+                self.assertNotIn(path.stem, dir(builtins) + keyword.kwlist + WORDS)
+                self.assertTrue(all(sign == 10 or 32 <= sign <= 126 for sign in path.read_bytes()))
+
+    def test_l2_l16_imports(self):
+        drawn = {}
+        for path, tree in trees():
+            self.assertEqual(nodes(tree, ast.Import), [])
+            rows = nodes(tree, ast.ImportFrom)
+            self.assertTrue(all(row in tree.body and row.level == 0 for row in rows))
+            self.assertTrue(all(row.module.startswith("elderline.") for row in rows))
+            self.assertTrue(all(alias.name != "*" for row in rows for alias in row.names))
+            drawn[path.stem] = {row.module.split(".")[1] for row in rows}
+        while drawn:
+            last = [name for name in drawn if not drawn[name] & set(drawn)]
+            self.assertTrue(last, f"these draw from one another: {sorted(drawn)}")
+            drawn = {name: drawn[name] for name in drawn if name not in last}
+
+    def test_l3_l15_top(self):
+        for path, tree in trees():
+            self.assertIsNotNone(ast.get_docstring(tree))
+            for node in tree.body[1:]:
+                self.assertIsInstance(node, (ast.ImportFrom, ast.FunctionDef, ast.ClassDef, ast.Assign))
+            bound = [node.name for node in tree.body if isinstance(node, (ast.FunctionDef, ast.ClassDef))]
+            self.assertEqual(len(bound), len(set(bound)))
+
+    def test_l4_functions(self):
+        for path, tree in trees():
+            for function in nodes(tree, ast.FunctionDef):
+                told = function.args
+                self.assertEqual((told.vararg, told.kwarg, told.kwonlyargs, told.posonlyargs), (None, None, [], []))
+                self.assertEqual((function.decorator_list, function.returns), ([], None))
+
+    def test_l5_classes(self):
+        for path, tree in trees():
+            for one in nodes(tree, ast.ClassDef):
+                self.assertIn(one, tree.body)
+                self.assertLessEqual(len(one.bases), 1)
+                self.assertEqual((one.decorator_list, one.keywords), ([], []))
+                self.assertTrue(all(isinstance(node, (ast.FunctionDef, ast.Pass)) for node in one.body))
+
+    def test_l6_l7_statements_and_expressions(self):
+        for path, tree in trees():
+            self.assertEqual(nodes(tree, BARRED), [])
+            for function in nodes(tree, ast.FunctionDef):
+                for node in nodes(function, ast.stmt):
+                    call = isinstance(node, ast.Expr) and isinstance(node.value, ast.Call)
+                    self.assertTrue(call or isinstance(node, STATEMENTS), ast.dump(node))
+            for node in nodes(tree, (ast.For, ast.While)):
+                self.assertEqual(node.orelse, [])
+            for node in nodes(tree, ast.Try):
+                self.assertEqual(node.finalbody, [])
+            for node in nodes(tree, ast.Assign):
+                self.assertEqual([isinstance(target, ast.Tuple) for target in node.targets], [False])
+            for node in nodes(tree, ast.ListComp):
+                self.assertEqual(len(node.generators), 1)
+                self.assertLessEqual(len(node.generators[0].ifs), 1)
+            for node in nodes(tree, ast.Constant):
+                self.assertIn(type(node.value), (int, str, bool, type(None)))
+
+    def test_l8_l12_l15_names(self):
+        for path, tree in trees():
+            stored = [node.id for node in nodes(tree, ast.Name) if isinstance(node.ctx, ast.Store)]
+            stored += [node.arg for node in nodes(tree, ast.arg)]
+            defined = [node.name for node in nodes(tree, (ast.FunctionDef, ast.ClassDef))]
+            drawn = [alias.asname or alias.name for row in nodes(tree, ast.ImportFrom) for alias in row.names]
+            known = stored + defined + drawn
+            for name in stored + defined:
+                self.assertRegex(name, r"\A[A-Za-z]|\A__[a-z]+__\Z")
+                self.assertNotIn(name, dir(builtins))
+                self.assertTrue(not name.startswith("__") or name in DOUBLE)
+            for name in stored:
+                self.assertNotIn(name, drawn)
+            for node in nodes(tree, ast.Name):
+                self.assertIn(node.id, known + OWN_NAMES)
+
+    def test_l10_size(self):
+        for path, tree in trees():
+            lines = path.read_text().split("\n")
+            self.assertLessEqual(len(lines), 400)
+            self.assertLessEqual(max(len(line) for line in lines), 120)
+            for function in nodes(tree, ast.FunctionDef):
+                self.assertLessEqual(function.end_lineno - function.lineno + 1, 40)
+
+    def test_l17_words(self):
+        for path in files():
+            text = path.read_text()
+            self.assertEqual(sorted(set(re.findall(r"\w+", text)) & set(WORDS)), [])
+            self.assertIsNone(re.search("dataclass|overload|contextmanager", text))
+
+    def test_l20_is(self):
+        for path, tree in trees():
+            for node in nodes(tree, ast.Compare):
+                for sign, right in zip(node.ops, node.comparators):
+                    if isinstance(sign, (ast.Is, ast.IsNot)):
+                        self.assertIsInstance(right, ast.Constant)
+                        self.assertIn(type(right.value), (bool, type(None)))
+
+    def test_l25_methods(self):
+        methods = []
+        for path, tree in trees():
+            for one in nodes(tree, ast.ClassDef):
+                methods += [node.name for node in nodes(one, ast.FunctionDef)]
+        for path, tree in trees():
+            for call in nodes(tree, ast.Call):
+                if isinstance(call.func, ast.Attribute):
+                    self.assertIn(call.func.attr, METHODS + methods)
+
+    def test_l27_signs_in_texts(self):
+        for path, tree in trees():
+            for node in nodes(tree, ast.Constant):
+                self.assertFalse(isinstance(node.value, str) and chr(37) in node.value)
+
+
+if __name__ == "__main__":
+    unittest.main()
