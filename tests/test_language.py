@@ -1,4 +1,4 @@
-"""What can be seen of LANGUAGE.md's rules from the package's files, by the rules' numbers."""
+"""Those of LANGUAGE.md's rules that are checked here, by their numbers; the others are left to the reader."""
 
 import ast
 import builtins
