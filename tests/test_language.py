@@ -23,6 +23,11 @@ ArithmeticError OverflowError RuntimeError NotImplementedError AttributeError St
 METHODS = """append clear copy count endswith extend find get index insert isalnum isalpha isdigit islower isspace
 isupper items join keys ljust lower lstrip partition pop remove replace reverse rfind rjust rpartition rsplit rstrip
 setdefault split splitlines startswith strip update upper values zfill bit_length""".split()
+READING = "get index count items keys values".split()
+READERS = "len sorted list tuple dict sum any all min max enumerate zip reversed".split()
+KINDS = (str, int, list, dict, set, bytes, tuple)
+FREE_VALUES = "count index title find get join lower upper split strip copy add".split()
+FREE_METHODS = METHODS + ["add", "discard"]
 DOUBLE = ["__init__", "__eq__", "__repr__", "__str__", "__len__"]
 WORDS = """type typing typing_extensions enum Enum IntEnum StrEnum Flag IntFlag Generic Protocol ABC ABCMeta
 namedtuple NamedTuple TypedDict TYPE_CHECKING abstractmethod""".split()
@@ -38,6 +43,31 @@ def nodes(tree, kind):
 
 def trees():
     return [(path, ast.parse(path.read_text(encoding="ascii"), path.name)) for path in files()]
+
+
+def parents(tree):
+    return {child: node for node in ast.walk(tree) for child in ast.iter_child_nodes(node)}
+
+
+def methods_of_classes():
+    defined = [one for path, tree in trees() for one in nodes(tree, ast.ClassDef)]
+    return {node.name for one in defined for node in nodes(one, ast.FunctionDef)}
+
+
+def values_of_objects():
+    stored = [node for path, tree in trees() for node in nodes(tree, ast.Attribute)]
+    return {node.attr for node in stored if isinstance(node.ctx, ast.Store)}
+
+
+def is_only_read(node, above):
+    """Whether this use of a list or dict of a file's top only reads it."""
+    if isinstance(above, ast.Attribute):
+        return above.attr in READING
+    if isinstance(above, ast.Subscript):
+        return above.value is node and isinstance(above.ctx, ast.Load)
+    if isinstance(above, ast.Call):
+        return isinstance(above.func, ast.Name) and above.func.id in READERS
+    return isinstance(above, (ast.Compare, ast.For, ast.comprehension))
 
 
 class Language(unittest.TestCase):
@@ -72,6 +102,18 @@ class Language(unittest.TestCase):
                 self.assertIsInstance(node, (ast.ImportFrom, ast.FunctionDef, ast.ClassDef, ast.Assign))
             bound = [node.name for node in tree.body if isinstance(node, (ast.FunctionDef, ast.ClassDef))]
             self.assertEqual(len(bound), len(set(bound)))
+
+    def test_l3_l15_values_of_the_top(self):
+        for path, tree in trees():
+            above = parents(tree)
+            for row in [node for node in tree.body if isinstance(node, ast.Assign)]:
+                value = ast.literal_eval(row.value)
+                if not isinstance(value, (list, dict)):
+                    continue
+                self.assertEqual(len(nodes(row.value, (ast.List, ast.Dict))), 1)
+                for node in nodes(tree, ast.Name):
+                    if node.id == row.targets[0].id and isinstance(node.ctx, ast.Load):
+                        self.assertTrue(is_only_read(node, above[node]), f"{path.name}:{node.lineno}")
 
     def test_l4_functions(self):
         for path, tree in trees():
@@ -137,6 +179,14 @@ class Language(unittest.TestCase):
             self.assertEqual(sorted(set(re.findall(r"\w+", text)) & set(WORDS)), [])
             self.assertIsNone(re.search("dataclass|overload|contextmanager", text))
 
+    def test_l18_l26_methods_and_values(self):
+        methods = methods_of_classes()
+        values = values_of_objects()
+        taken = {name for kind in KINDS for name in dir(kind)}
+        self.assertEqual(sorted(methods & values), [])
+        self.assertEqual(sorted((methods & taken) - set(FREE_METHODS + DOUBLE)), [])
+        self.assertEqual(sorted(values & (taken | {"args", "encode", "format"}) - set(FREE_VALUES)), [])
+
     def test_l20_is(self):
         for path, tree in trees():
             for node in nodes(tree, ast.Compare):
@@ -145,15 +195,23 @@ class Language(unittest.TestCase):
                         self.assertIsInstance(right, ast.Constant)
                         self.assertIn(type(right.value), (bool, type(None)))
 
-    def test_l25_methods(self):
-        methods = []
+    def test_l24_sets(self):
         for path, tree in trees():
-            for one in nodes(tree, ast.ClassDef):
-                methods += [node.name for node in nodes(one, ast.FunctionDef)]
+            above = parents(tree)
+            self.assertEqual(nodes(tree, ast.Set), [])
+            for call in nodes(tree, ast.Call):
+                if isinstance(call.func, ast.Name) and call.func.id == "set":
+                    around = above[call]
+                    while isinstance(around, ast.BinOp):
+                        around = above[around]
+                    asked = isinstance(around, ast.Call) and around.func.id in ("sorted", "len")
+                    self.assertTrue(asked and not around.keywords or isinstance(around, ast.Compare))
+
+    def test_l25_methods(self):
         for path, tree in trees():
             for call in nodes(tree, ast.Call):
                 if isinstance(call.func, ast.Attribute):
-                    self.assertIn(call.func.attr, METHODS + methods)
+                    self.assertIn(call.func.attr, METHODS + sorted(methods_of_classes()))
 
     def test_l27_signs_in_texts(self):
         for path, tree in trees():

@@ -5,6 +5,7 @@ import unittest
 
 from elderline.errors import AtOdds
 from elderline.merging import merged
+from helping import BookTest, letters, told_by_the_words
 
 
 def labels_for(rows):
@@ -15,52 +16,16 @@ def merge(rows):
     return merged(rows, labels_for(rows))
 
 
-def told_by_the_words(rows):
-    """Point 3 to the letter: the merged row, or None where the rows are at odds."""
-    rows = [list(row) for row in rows]
-    answer = []
-    while any(rows):
-        free = [row[0] for row in rows if row and not any(row[0] in other[1:] for other in rows)]
-        if not free:
-            return None
-        answer.append(free[0])
-        rows = [[name for name in row if name != free[0]] for row in rows]
-    return answer
-
-
 def keeps(line, row):
     places = [line.index(name) for name in row]
     return places == sorted(places)
 
 
-def letters(count, first="a"):
-    """As many names of one length, in the order of their letters."""
-    small = "abcdefghijklmnopqrstuvwxyz"
-    return [first + small[place // 676] + small[place // 26 % 26] + small[place % 26] for place in range(count)]
-
-
-class RingTest(unittest.TestCase):
+class RingTest(BookTest):
     def ring(self, rows, labels):
-        with self.assertRaises(AtOdds) as caught:
-            merged(rows, labels)
-        self.assertIs(type(caught.exception), AtOdds)
-        return caught.exception.ring
+        return self.refused(AtOdds, merged, rows, labels).ring
 
-    def check_ring(self, ring, rows, labels):
-        self.assertIs(type(ring), list)
-        self.assertGreaterEqual(len(ring), 2)
-        for leaning in ring:
-            self.assertIs(type(leaning), tuple)
-            self.assertEqual([type(part) for part in leaning], [str, str, str])
-            ahead, after, label = leaning
-            self.assertTrue(any(
-                ahead in row and after in row and row.index(ahead) < row.index(after)
-                for row, named in zip(rows, labels) if named == label
-            ), leaning)
-        self.assertEqual([leaning[1] for leaning in ring], [leaning[0] for leaning in ring[1:] + ring[:1]])
-        self.assertEqual(len({leaning[0] for leaning in ring}), len(ring))
-
-    def refused(self, rows):
+    def at_odds(self, rows):
         labels = labels_for(rows)
         ring = self.ring(rows, labels)
         self.check_ring(ring, rows, labels)
@@ -160,49 +125,49 @@ class LongRows(unittest.TestCase):
 class LongRowsAtOdds(RingTest):
     def test_sixty_rows_in_one_ring(self):
         names = letters(60)
-        self.assertEqual(len(self.refused([[names[place - 1], names[place]] for place in range(60)])), 60)
+        self.assertEqual(len(self.at_odds([[names[place - 1], names[place]] for place in range(60)])), 60)
 
     def test_forty_names_told_forwards_and_backwards(self):
         names = letters(40)
-        self.refused([names, names[::-1]])
-        self.refused([names, names[1:] + names[:1]])
-        self.refused([names, names[:38] + [names[39], names[38]]])
+        self.at_odds([names, names[::-1]])
+        self.at_odds([names, names[1:] + names[:1]])
+        self.at_odds([names, names[:38] + [names[39], names[38]]])
 
 
 class Refused(RingTest):
     def test_two_rows_that_lean_against_each_other(self):
-        ring = self.refused([["a", "b"], ["b", "a"]])
+        ring = self.at_odds([["a", "b"], ["b", "a"]])
         self.assertEqual(sorted(ring), [("a", "b", "row0"), ("b", "a", "row1")])
 
     def test_names_that_stand_apart_in_their_rows(self):
-        self.refused([["a", "x", "b"], ["b", "y", "a"]])
-        self.refused([["a", "b", "c", "d"], ["d", "a"]])
+        self.at_odds([["a", "x", "b"], ["b", "y", "a"]])
+        self.at_odds([["a", "b", "c", "d"], ["d", "a"]])
 
     def test_longer_rings(self):
         for length in range(3, 27):
             names = letters(length)
             rows = [[names[place - 1], names[place]] for place in range(length)]
             with self.subTest(length=length):
-                self.assertEqual(len(self.refused(rows)), length)
+                self.assertEqual(len(self.at_odds(rows)), length)
 
     def test_a_ring_among_rows_that_are_merged_in_part_ahead(self):
-        self.refused([["p", "q", "a", "b"], ["p", "b", "r", "a"], ["q", "s"]])
-        self.refused([["a", "b", "c", "d", "e", "f"], ["a", "c"], ["f", "e"], []])
+        self.at_odds([["p", "q", "a", "b"], ["p", "b", "r", "a"], ["q", "s"]])
+        self.at_odds([["a", "b", "c", "d", "e", "f"], ["a", "c"], ["f", "e"], []])
 
     def test_a_way_that_leads_into_the_ring_is_no_part_of_it(self):
-        ring = self.refused([["x", "w"], ["a", "x"], ["a", "b"], ["b", "a"]])
+        ring = self.at_odds([["x", "w"], ["a", "x"], ["a", "b"], ["b", "a"]])
         self.assertEqual({leaning[0] for leaning in ring}, {"a", "b"})
 
     def test_two_rings_at_once(self):
-        self.refused([["a", "b"], ["c", "d"], ["b", "a"], ["d", "c"]])
+        self.at_odds([["a", "b"], ["c", "d"], ["b", "a"], ["d", "c"]])
 
     def test_empty_rows_among_rows_at_odds(self):
-        self.refused([[], ["a", "b"], [], ["b", "a"], []])
+        self.at_odds([[], ["a", "b"], [], ["b", "a"], []])
 
     def test_names_that_share_most_of_their_letters(self):
         stem = "a" * 19
-        self.refused([[stem + "b", stem + "c"], [stem + "c", "a" * 20], ["a" * 20, stem, stem + "b"]])
-        self.refused([["a", "aa", "aaa"], ["aaa", "aa"]])
+        self.at_odds([[stem + "b", stem + "c"], [stem + "c", "a" * 20], ["a" * 20, stem, stem + "b"]])
+        self.at_odds([["a", "aa", "aaa"], ["aaa", "aa"]])
 
     def test_labels_stand_as_they_were_told(self):
         rows = [["a", "b"], ["b", "a"]]
@@ -214,7 +179,7 @@ class Refused(RingTest):
 
     def test_the_label_is_that_of_a_row_that_has_both_names(self):
         rows = [["c"], [], ["d", "a", "b"], ["c", "d"], ["b", "e", "a"]]
-        ring = self.refused(rows)
+        ring = self.at_odds(rows)
         self.assertEqual(sorted(ring), [("a", "b", "row2"), ("b", "a", "row4")])
 
 
@@ -235,7 +200,7 @@ class AgainstOthers(RingTest):
             wanted = told_by_the_words(rows)
             if wanted is None:
                 refused_ones += 1
-                self.refused(rows)
+                self.at_odds(rows)
             else:
                 merged_ones += 1
                 self.assertEqual(merge(rows), wanted)
@@ -253,7 +218,7 @@ class AgainstOthers(RingTest):
             if kept:
                 self.assertIn(merge(rows), kept)
             else:
-                self.refused(rows)
+                self.at_odds(rows)
 
     def test_as_python_orders_its_own_classes(self):
         chance = random.Random(4)
@@ -268,7 +233,7 @@ class AgainstOthers(RingTest):
                     made = type(name, tuple(classes[elder] for elder in elders), {})
                 except TypeError:
                     refused_ones += 1
-                    self.refused(rows)
+                    self.at_odds(rows)
                 else:
                     classes[name] = made
                     orders[name] = [name] + merge(rows)
@@ -300,7 +265,7 @@ class NothingChanged(RingTest):
 
     def test_refused_again_with_the_same_ring(self):
         rows = copy.deepcopy(self.AT_ODDS)
-        self.assertEqual(self.refused(rows), self.refused(rows))
+        self.assertEqual(self.at_odds(rows), self.at_odds(rows))
 
     def test_an_answer_that_is_changed(self):
         rows = copy.deepcopy(self.AGREED)
@@ -317,9 +282,9 @@ class NothingChanged(RingTest):
 
     def test_a_ring_that_is_changed(self):
         rows = copy.deepcopy(self.AT_ODDS)
-        wanted = list(self.refused(rows))
-        self.refused(rows).clear()
-        self.assertEqual(self.refused(rows), wanted)
+        wanted = list(self.at_odds(rows))
+        self.at_odds(rows).clear()
+        self.assertEqual(self.at_odds(rows), wanted)
 
     def test_rows_and_labels_that_are_changed_behind_the_call(self):
         rows = copy.deepcopy(self.AGREED)
@@ -342,7 +307,7 @@ class NothingChanged(RingTest):
     def test_a_call_leaves_nothing_behind_for_another(self):
         merge([["a", "b"]])
         self.assertEqual(merge([["b", "a"]]), ["b", "a"])
-        self.refused(copy.deepcopy(self.AT_ODDS))
+        self.at_odds(copy.deepcopy(self.AT_ODDS))
         self.assertEqual(merge([["c", "b", "a"]]), ["c", "b", "a"])
 
 

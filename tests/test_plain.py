@@ -13,8 +13,8 @@ class Texts(unittest.TestCase):
         self.assertIs(is_text("\n\n"), True)
 
     def test_no_other_sign(self):
-        others = [chr(sign) for sign in range(32) if sign != 10] + [chr(127), "\x80", "\xa0", "\xe9", "\u2028", "\U0001f600"]
-        for sign in others:
+        others = [chr(sign) for sign in range(32) if sign != 10]
+        for sign in others + [chr(127), "\x80", "\xa0", "\xe9", "\u2028", "\U0001f600"]:
             with self.subTest(sign=sign):
                 self.assertIs(is_text(sign), False)
                 self.assertIs(is_text("a" + sign), False)
