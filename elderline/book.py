@@ -19,15 +19,15 @@ class Book:
     def __init__(self):
         self.by_name = {}
 
-    def found(self, name, elders=()):
+    def found(self, name, elders=None):
         if not is_name(name):
             raise BadText("a name has 1 to 20 small letters")
         if name in self.by_name:
             raise Founded(f"{name} is founded already")
-        orders = [self.order(elder) for elder in elders]
-        if len(set(elders)) < len(elders):
+        elder_row = [] if elders is None else list(elders)
+        orders = [self.order(elder) for elder in elder_row]
+        if len(set(elder_row)) < len(elder_row):
             raise Doubled(f"an elder of {name} stands twice")
-        elder_row = list(elders)
         self.by_name[name] = House(elder_row, made_order(name, elder_row, orders))
 
     def houses(self):

@@ -46,6 +46,18 @@ class Foundings(BookTest):
         book.found("b")
         self.assertEqual(state(book), [("a", [], ["a"], [], []), ("b", [], ["b"], [], [])])
 
+    def test_elders_left_out_and_an_empty_list_are_alike(self):
+        ways = [("left out", ()), ("handed in", ([],))]
+        for first, second in itertools.product(ways, ways):
+            with self.subTest(first=first[0], second=second[0]):
+                book = Book()
+                self.assertIsNone(book.found("a", *first[1]))
+                self.assertIsNone(book.found("b", *second[1]))
+                self.assertEqual(book.houses(), ["a", "b"])
+                self.assertEqual((book.elders("a"), book.elders("b")), ([], []))
+                self.assertEqual((book.order("a"), book.order("b")), (["a"], ["b"]))
+                self.assertEqual((type(book.elders("a")), type(book.order("a"))), (list, list))
+
     def test_arguments_by_their_names(self):
         book = Book()
         book.found(name="a")
@@ -166,12 +178,20 @@ class Apart(BookTest):
         elders.reverse()
         self.assertEqual((book.elders("c"), book.elders("d")), (["a", "b"], ["a", "b"]))
 
-    def test_elders_left_out_twice(self):
-        book = Book()
-        book.found("a")
-        book.elders("a").append("x")
-        book.found("b")
-        self.assertEqual((book.elders("a"), book.elders("b")), ([], []))
+    def test_foundings_under_none_touch_no_other_one(self):
+        for handed in ((), ([],)):
+            book, second = Book(), Book()
+            book.found("a", *handed)
+            for change in CHANGES:
+                change(book.elders("a"))
+                change(book.order("a"))
+                for elders in handed:
+                    change(elders)
+            book.found("b")
+            book.found("c", [])
+            second.found("a")
+            self.assertEqual(state(book), [(name, [], [name], [], []) for name in ("a", "b", "c")])
+            self.assertEqual(state(second), [("a", [], ["a"], [], [])])
 
 
 class SeveralElders(BookTest):

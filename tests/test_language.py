@@ -25,6 +25,14 @@ isupper items join keys ljust lower lstrip partition pop remove replace reverse 
 setdefault split splitlines startswith strip update upper values zfill bit_length""".split()
 READING = "get index count items keys values".split()
 READERS = "len sorted list tuple dict sum any all min max enumerate zip reversed".split()
+WALKED = "zip enumerate reversed range".split()
+TAKERS = "list tuple dict sorted sum any all enumerate zip".split()
+KEYS = "len int str abs sum min max tuple".split()
+KEYWORDS = {
+    "sorted": ["key", "reverse"], "min": ["key", "default"], "max": ["key", "default"], "sum": ["start"],
+    "enumerate": ["start"], "zip": ["strict"],
+}
+TAKEN_AS_YOU_LIKE = "KeyError ZeroDivisionError StopIteration".split()
 KINDS = (str, int, list, dict, set, bytes, tuple)
 FREE_VALUES = "count index title find get join lower upper split strip copy add".split()
 FREE_METHODS = METHODS + ["add", "discard"]
@@ -43,6 +51,16 @@ def nodes(tree, kind):
 
 def trees():
     return [(path, ast.parse(path.read_text(encoding="ascii"), path.name)) for path in files()]
+
+
+def defaults(tree):
+    """Every default of a parameter, also of functions within functions and of lambdas."""
+    told = [node.args for node in nodes(tree, (ast.FunctionDef, ast.AsyncFunctionDef, ast.Lambda))]
+    return [one for args in told for one in args.defaults + args.kw_defaults if one is not None]
+
+
+def is_written_value(node):
+    return isinstance(node, ast.Constant) and type(node.value) in (int, str, bool, type(None))
 
 
 def parents(tree):
@@ -68,6 +86,23 @@ def is_only_read(node, above):
     if isinstance(above, ast.Call):
         return isinstance(above.func, ast.Name) and above.func.id in READERS
     return isinstance(above, (ast.Compare, ast.For, ast.comprehension))
+
+
+def is_walked(node, above):
+    """Whether what must be walked at once, such as a zip, is walked where it stands."""
+    if isinstance(above, (ast.For, ast.comprehension)):
+        return above.iter is node
+    if not isinstance(above, ast.Call):
+        return False
+    if isinstance(above.func, ast.Attribute):
+        return above.func.attr == "join" and isinstance(above.func.value, ast.Constant)
+    if above.func.id in ("min", "max"):
+        return above.args == [node]
+    return above.func.id in TAKERS and (above.args[0] is node or above.func.id == "zip")
+
+
+def is_key(node, above):
+    return isinstance(above, ast.keyword) and above.arg == "key" and node.id in KEYS
 
 
 class Language(unittest.TestCase):
@@ -101,6 +136,8 @@ class Language(unittest.TestCase):
             for node in tree.body[1:]:
                 self.assertIsInstance(node, (ast.ImportFrom, ast.FunctionDef, ast.ClassDef, ast.Assign))
             bound = [node.name for node in tree.body if isinstance(node, (ast.FunctionDef, ast.ClassDef))]
+            bound += [row.targets[0].id for row in tree.body if isinstance(row, ast.Assign)]
+            bound += [alias.asname or alias.name for row in nodes(tree, ast.ImportFrom) for alias in row.names]
             self.assertEqual(len(bound), len(set(bound)))
 
     def test_l3_l15_values_of_the_top(self):
@@ -121,6 +158,24 @@ class Language(unittest.TestCase):
                 told = function.args
                 self.assertEqual((told.vararg, told.kwarg, told.kwonlyargs, told.posonlyargs), (None, None, [], []))
                 self.assertEqual((function.decorator_list, function.returns), ([], None))
+            for told in nodes(tree, ast.arg):
+                self.assertIsNone(told.annotation)
+
+    def test_l4_defaults(self):
+        for path, tree in trees():
+            for node in defaults(tree):
+                self.assertTrue(is_written_value(node), f"{path.name}:{node.lineno}")
+
+    def test_l4_every_default_is_looked_at(self):
+        for form in ("def f(a, b={}): pass", "class C:\n def f(self, a={}): pass", "f = lambda a, b={}: a",
+                     "def f():\n def g(a={}): pass", "class C:\n def f(self):\n  return lambda a={}: a",
+                     "def f(a, *, b={}): pass"):
+            for value in ("0", "40", "'a'", "''", "True", "False", "None"):
+                told = defaults(ast.parse(form.replace("{}", value)))
+                self.assertEqual([is_written_value(node) for node in told], [True], (form, value))
+            for value in ("()", "(1,)", "[]", "{}", "set()", "f", "-1", "1 + 1", "1.5", "b''", "...", "f''", "len"):
+                told = defaults(ast.parse(form.replace("{}", value)))
+                self.assertEqual([is_written_value(node) for node in told], [False], (form, value))
 
     def test_l5_classes(self):
         for path, tree in trees():
@@ -161,7 +216,7 @@ class Language(unittest.TestCase):
                 self.assertNotIn(name, dir(builtins))
                 self.assertTrue(not name.startswith("__") or name in DOUBLE)
             for name in stored:
-                self.assertNotIn(name, drawn)
+                self.assertNotIn(name, drawn + [one.name for one in nodes(tree, ast.ClassDef)])
             for node in nodes(tree, ast.Name):
                 self.assertIn(node.id, known + OWN_NAMES)
 
@@ -187,6 +242,23 @@ class Language(unittest.TestCase):
         self.assertEqual(sorted((methods & taken) - set(FREE_METHODS + DOUBLE)), [])
         self.assertEqual(sorted(values & (taken | {"args", "encode", "format"}) - set(FREE_VALUES)), [])
 
+    def test_l18_no_method_twice(self):
+        for path, tree in trees():
+            for one in nodes(tree, ast.ClassDef):
+                names = [node.name for node in one.body if isinstance(node, ast.FunctionDef)]
+                self.assertEqual(len(names), len(set(names)))
+
+    def test_l19_errors(self):
+        own = {one.name for path, tree in trees() for one in nodes(tree, ast.ClassDef) if path.stem == "errors"}
+        for path, tree in trees():
+            for node in nodes(tree, ast.ExceptHandler):
+                self.assertIsInstance(node.type, ast.Name)
+                self.assertIn(node.type.id, sorted(own) + TAKEN_AS_YOU_LIKE)
+            for node in nodes(tree, ast.Raise):
+                self.assertIsInstance(node.exc, ast.Call)
+                self.assertIn(node.exc.func.id, own)
+                self.assertEqual(node.exc.keywords, [])
+
     def test_l20_is(self):
         for path, tree in trees():
             for node in nodes(tree, ast.Compare):
@@ -194,6 +266,36 @@ class Language(unittest.TestCase):
                     if isinstance(sign, (ast.Is, ast.IsNot)):
                         self.assertIsInstance(right, ast.Constant)
                         self.assertIn(type(right.value), (bool, type(None)))
+
+    def test_l22_own_names_are_called(self):
+        for path, tree in trees():
+            above = parents(tree)
+            for node in nodes(tree, ast.Name):
+                if node.id not in OWN_NAMES:
+                    continue
+                around = above[node]
+                called = isinstance(around, ast.Call) and around.func is node
+                beside = around if isinstance(around, ast.Call) else above[around]
+                kind = isinstance(beside, ast.Call) and getattr(beside.func, "id", "") == "isinstance"
+                base = isinstance(around, (ast.ClassDef, ast.ExceptHandler))
+                self.assertTrue(called or kind or base or is_key(node, around), f"{path.name}:{node.lineno}")
+
+    def test_l22_keywords(self):
+        for path, tree in trees():
+            for call in nodes(tree, ast.Call):
+                told = [one.arg for one in call.keywords]
+                if isinstance(call.func, ast.Name) and call.func.id in OWN_NAMES:
+                    self.assertLessEqual(set(told), set(KEYWORDS.get(call.func.id, [])))
+                if isinstance(call.func, ast.Attribute) and call.func.attr in METHODS:
+                    self.assertEqual(told, [])
+
+    def test_l23_walked_at_once(self):
+        for path, tree in trees():
+            above = parents(tree)
+            for call in nodes(tree, ast.Call):
+                name = call.func.attr if isinstance(call.func, ast.Attribute) else call.func.id
+                if name in (["items", "keys", "values"] if isinstance(call.func, ast.Attribute) else WALKED):
+                    self.assertTrue(is_walked(call, above[call]), f"{path.name}:{call.lineno}")
 
     def test_l24_sets(self):
         for path, tree in trees():
@@ -217,6 +319,19 @@ class Language(unittest.TestCase):
         for path, tree in trees():
             for node in nodes(tree, ast.Constant):
                 self.assertFalse(isinstance(node.value, str) and chr(37) in node.value)
+
+    def test_l27_powers(self):
+        for path, tree in trees():
+            for node in nodes(tree, ast.BinOp):
+                if isinstance(node.op, ast.Pow):
+                    self.assertTrue(is_written_value(node.right), f"{path.name}:{node.lineno}")
+                    self.assertTrue(0 <= node.right.value <= 64, f"{path.name}:{node.lineno}")
+
+    def test_l28_making_gives_back_nothing(self):
+        for path, tree in trees():
+            for function in nodes(tree, ast.FunctionDef):
+                if function.name == "__init__":
+                    self.assertEqual([node.value for node in nodes(function, ast.Return) if node.value], [])
 
 
 if __name__ == "__main__":
