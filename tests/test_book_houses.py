@@ -4,16 +4,7 @@ import unittest
 
 from elderline.book import Book
 from elderline.errors import AtOdds, BadText, Doubled, Founded, Unfounded
-from helping import CHANGES, NO_NAMES, BookTest, chain, letters, state, told_by_the_words
-
-
-def built(*foundings):
-    """A book of houses, each told as its name and its elders, parted by blanks."""
-    book = Book()
-    for founding in foundings:
-        name, *elders = founding.split()
-        book.found(name, elders)
-    return book
+from helping import CHANGES, NO_NAMES, BookTest, built, chain, letters, state, told_by_the_words
 
 
 def turned_ways(names):

@@ -2,8 +2,8 @@ import random
 import unittest
 
 from elderline.book import Book
-from elderline.errors import BadBody, BadText, BookError, Unfounded
-from helping import CHANGES, NO_NAMES, BookTest, bodies, chain, letters, state
+from elderline.errors import BadBody, BadText, Unfounded
+from helping import CHANGES, NO_NAMES, BookTest, bodies, chain, grown_book, letters, state
 
 HI = [("say",), ("plus", 1)]
 HO = [("put", 7), ("say",)]
@@ -259,13 +259,7 @@ class AgainstARetelling(BookTest):
     def test_many_calls(self):
         chance = random.Random(21)
         for turn in range(25):
-            book = Book()
-            for name in letters(8):
-                houses = book.houses()
-                try:
-                    book.found(name, chance.sample(houses, chance.randrange(0, min(3, len(houses)) + 1)))
-                except BookError:
-                    book.found(name)
+            book = grown_book(chance, letters(8))
             orders = {name: book.order(name) for name in book.houses()}
             known = {name: [] for name in book.houses()}
             for call in range(60):
