@@ -1,27 +1,26 @@
 """A house that is asked a word, with its elders in the book."""
 
-from elderline.errors import Spent, Unanswered
+from elderline.errors import Unanswered
 from elderline.plain import check_question
 from elderline.reckoning import reckoned
+from elderline.tallying import Tally
 
 
 def answered(book, name, word, number=0, count=40):
     row = book.order(name)
     check_question(number, count)
-    asking = Asking(book, row, count)
+    asking = Asking(book, row, Tally(count))
     asking.asked(word, 0, number)
-    return asking.said
+    return asking.tally.said
 
 
-# One question from its start to its end: the order of the house that was asked at
-# the first, how many bodies may still be entered, and what was said and not taken back.
-# Each method answers the number that is in hand behind what it does.
+# One question from its start to its end. The row is the order of the house that was asked
+# at the first. Each method answers the number that is in hand behind what it does.
 class Asking:
-    def __init__(self, book, row, left):
+    def __init__(self, book, row, tally):
         self.book = book
         self.row = row
-        self.left = left
-        self.said = []
+        self.tally = tally
 
     # The houses ahead of the place are passed over: that is how a word is handed on.
     def asked(self, word, place, number):
@@ -32,9 +31,7 @@ class Asking:
         raise Unanswered("no house of the order knows the word")
 
     def entered(self, body, word, index, number):
-        if self.left == 0:
-            raise Spent("no more bodies may be entered")
-        self.left = self.left - 1
+        self.tally.enter()
         for step in body:
             number = self.behind(step, word, index, number)
         return number
@@ -46,14 +43,13 @@ class Asking:
             return self.asked(step[1], 0, number)
         if step[0] == "try":
             return self.tried(step[1], step[2], number)
-        return reckoned(step, number, self.said)
+        return reckoned(step, number, self.tally.said)
 
-    # What was entered stays counted. The other word is asked outside the
-    # handler, so that its own Unanswered goes on outwards by itself.
+    # The other word is asked outside the handler, so that its own Unanswered goes on outwards by itself.
     def tried(self, word, other, number):
-        said_before = len(self.said)
+        said_before = len(self.tally.said)
         try:
             return self.asked(word, 0, number)
         except Unanswered:
-            self.said = self.said[:said_before]
+            self.tally.take_back(said_before)
         return self.asked(other, 0, number)

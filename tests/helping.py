@@ -12,6 +12,15 @@ NO_NAMES = [
     "", "a" * 21, "a" * 40, "A", "aB", "a1", "1", "a b", " a", "a ", "a_b", "a-b", "a\n", "\n", "`", "{", "\xe4",
     "a\u0430", None, True, False, 0, 1, -1, 1.5, [], ["a"], [["a"]], (), ("a",), {}, {"a": 1}, b"a",
 ]
+# What can't be asked with, as a number or as a count.
+NO_NUMBERS = [
+    -10 ** 30 - 1, 10 ** 30 + 1, -10 ** 60, 10 ** 60, 10 ** 5000, True, False, None, "", "0", "a", 0.0, 1.5,
+    float("nan"), [], [0], (), (0,), {}, {0: 0}, b"0", {0}, object(),
+]
+NO_COUNTS = [
+    -1, 41, -10 ** 30, 10 ** 30, 42, 100, 10 ** 5000, -10 ** 5000, True, False, None, "", "0", "a", 0.0, 40.0,
+    float("nan"), [], [0], (), (0,), {}, {0: 0}, b"0", {0}, object(),
+]
 # What an asker may do to a list that is his own.
 CHANGES = [
     list.clear, list.reverse, lambda answer: answer.append("x"), lambda answer: answer.insert(0, "x"),
@@ -19,6 +28,8 @@ CHANGES = [
 
 # Both bounds of amounts and inputs, what lies beside them, and numbers of every smaller size.
 NUMBERS = [0, 1, 2, 7, 40, -1, -2, -9, 2 ** 64, -2 ** 64, 10 ** 30 - 1, 10 ** 30, 1 - 10 ** 30, -10 ** 30]
+SAY = ("say",)
+NONE = ("none",)
 # What Python's own signs do.
 WORK = {
     "put": lambda number, amount: amount, "plus": operator.add, "times": operator.mul, "over": operator.floordiv,
@@ -116,6 +127,48 @@ def taught_by_chance(chance, book, words, length=6):
                     asking_step(chance, further) if chance.random() < 0.4 else plain_step(chance)
                     for step in range(chance.randrange(0, length + 1))
                 ])
+
+
+def go(place):
+    return ("go", place)
+
+
+def either(one, other):
+    return ("either", one, other)
+
+
+def way_by_chance(chance, places):
+    """A go to one of those places, or a none."""
+    return go(chance.choice(places)) if places and chance.random() < 0.8 else NONE
+
+
+def leading_step(chance, places):
+    """A go, a none or an either, to those places."""
+    if chance.random() < 0.5:
+        return way_by_chance(chance, places)
+    return either(way_by_chance(chance, places), way_by_chance(chance, places))
+
+
+# Where the rows by chance may lead to from a place, out of so many rows.
+LEADS = {
+    "later rows alone": lambda place, count: range(place + 1, count),
+    "the next rows alone": lambda place, count: range(place + 1, min(place + 4, count)),
+    "earlier rows alone": lambda place, count: range(place),
+    "earlier rows and itself": lambda place, count: range(place + 1),
+    "itself alone": lambda place, count: [place],
+    "any row": lambda place, count: range(count),
+}
+
+
+def rows_by_chance(chance, count, leads, length=4):
+    """So many rows of none to so many steps of all sorts, that lead to where the name in LEADS says."""
+    return [
+        [
+            leading_step(chance, LEADS[leads](place, count)) if chance.random() < 0.4 else plain_step(chance)
+            for step in range(chance.randint(0, length))
+        ]
+        for place in range(count)
+    ]
 
 
 def changing_books(chance, turns):

@@ -6,18 +6,10 @@ from elderline.asking import answered
 from elderline.book import Book
 from elderline.errors import BadCount, BadNumber, BookError, Spent, Unanswered, Unfounded
 from helping import (
-    CHANGES, NUMBERS, WORK, BookTest, built, chain, changing_books, ending, grown_book, letters, plain_step, retold,
-    state, taught_by_chance,
+    CHANGES, NO_COUNTS, NO_NUMBERS, NUMBERS, WORK, BookTest, built, chain, changing_books, ending, grown_book, letters,
+    plain_step, retold, state, taught_by_chance,
 )
 
-NO_NUMBERS = [
-    -10 ** 30 - 1, 10 ** 30 + 1, -10 ** 60, 10 ** 60, 10 ** 5000, True, False, None, "", "0", "a", 0.0, 1.5,
-    float("nan"), [], [0], (), (0,), {}, {0: 0}, b"0", {0}, object(),
-]
-NO_COUNTS = [
-    -1, 41, -10 ** 30, 10 ** 30, 42, 100, 10 ** 5000, -10 ** 5000, True, False, None, "", "0", "a", 0.0, 40.0,
-    float("nan"), [], [0], (), (0,), {}, {0: 0}, b"0", {0}, object(),
-]
 SAY = ("say",)
 
 

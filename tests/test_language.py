@@ -154,9 +154,10 @@ class Language(unittest.TestCase):
 
     def test_l4_functions(self):
         for path, tree in trees():
-            for function in nodes(tree, ast.FunctionDef):
+            for function in nodes(tree, (ast.FunctionDef, ast.Lambda)):
                 told = function.args
                 self.assertEqual((told.vararg, told.kwarg, told.kwonlyargs, told.posonlyargs), (None, None, [], []))
+            for function in nodes(tree, ast.FunctionDef):
                 self.assertEqual((function.decorator_list, function.returns), ([], None))
             for told in nodes(tree, ast.arg):
                 self.assertIsNone(told.annotation)
@@ -204,10 +205,18 @@ class Language(unittest.TestCase):
             for node in nodes(tree, ast.Constant):
                 self.assertIn(type(node.value), (int, str, bool, type(None)))
 
+    def test_l7_l27_f_strings(self):
+        for path, tree in trees():
+            for node in nodes(tree, ast.FormattedValue):
+                self.assertIsInstance(node.value, ast.Name)
+                self.assertIsNone(node.format_spec)
+                self.assertIn(node.conversion, (-1, ord("r")))
+
     def test_l8_l12_l15_names(self):
         for path, tree in trees():
             stored = [node.id for node in nodes(tree, ast.Name) if isinstance(node.ctx, ast.Store)]
             stored += [node.arg for node in nodes(tree, ast.arg)]
+            stored += [node.name for node in nodes(tree, ast.ExceptHandler) if node.name]
             defined = [node.name for node in nodes(tree, (ast.FunctionDef, ast.ClassDef))]
             drawn = [alias.asname or alias.name for row in nodes(tree, ast.ImportFrom) for alias in row.names]
             known = stored + defined + drawn
@@ -227,6 +236,11 @@ class Language(unittest.TestCase):
             self.assertLessEqual(max(len(line) for line in lines), 120)
             for function in nodes(tree, ast.FunctionDef):
                 self.assertLessEqual(function.end_lineno - function.lineno + 1, 40)
+
+    def test_l13_two_lambdas_on_a_line(self):
+        for path, tree in trees():
+            told = [(node.lineno, ast.dump(node.args)) for node in nodes(tree, ast.Lambda)]
+            self.assertEqual(len(told), len(set(told)))
 
     def test_l17_words(self):
         for path in files():
@@ -254,6 +268,8 @@ class Language(unittest.TestCase):
             for node in nodes(tree, ast.ExceptHandler):
                 self.assertIsInstance(node.type, ast.Name)
                 self.assertIn(node.type.id, sorted(own) + TAKEN_AS_YOU_LIKE)
+                for raised in nodes(node, ast.Raise):
+                    self.assertIn(getattr(raised.cause, "id", None), (None, node.name))
             for node in nodes(tree, ast.Raise):
                 self.assertIsInstance(node.exc, ast.Call)
                 self.assertIn(node.exc.func.id, own)
@@ -293,7 +309,7 @@ class Language(unittest.TestCase):
         for path, tree in trees():
             above = parents(tree)
             for call in nodes(tree, ast.Call):
-                name = call.func.attr if isinstance(call.func, ast.Attribute) else call.func.id
+                name = getattr(call.func, "attr", getattr(call.func, "id", ""))
                 if name in (["items", "keys", "values"] if isinstance(call.func, ast.Attribute) else WALKED):
                     self.assertTrue(is_walked(call, above[call]), f"{path.name}:{call.lineno}")
 
